@@ -117,12 +117,12 @@ func TestEvent(t *testing.T) {
 
 // P6.2: a text is an event just if it is one in an act, too.
 func TestEventIsTaken(t *testing.T) {
-	c := chance(3)
+	c := chance{3}
 	found := 0
 	for range 20000 {
 		s := ""
-		for range 1 + c.below(4) {
-			s += c.pick("a", "if", "go", ".", "_", "1", " ", "'", "set", "B", times(14, "n"))
+		for range 1 + c.Below(4) {
+			s += c.Pick("a", "if", "go", ".", "_", "1", " ", "'", "set", "B", times(14, "n"))
 		}
 		if act.Event(s) {
 			found++
@@ -178,10 +178,10 @@ func TestShow(t *testing.T) {
 
 // P6.2: acts made by chance are shown word by word, and taken again from that.
 func TestShowTaken(t *testing.T) {
-	c := chance(4)
+	c := chance{4}
 	shown := 0
 	for range 20000 {
-		l, e, _ := tok.Lex(c.some(1+c.below(8), c.below(6)))
+		l, e, _ := tok.Lex(c.some(1+c.Below(8), c.Below(6)))
 		if e != api.OK {
 			continue
 		}

@@ -7,6 +7,7 @@ import (
 
 	"whirligig/act"
 	"whirligig/api"
+	"whirligig/dice"
 	"whirligig/expr"
 	"whirligig/tok"
 )
@@ -150,52 +151,44 @@ func same(a, b act.Act) bool {
 	return a.Kind == b.Kind && slices.Equal(a.If, b.If) && a.Name == b.Name && slices.Equal(a.X, b.X) && a.N == b.N
 }
 
-// chance is a row of numbers that look as if they hung on nothing.
-type chance uint64
-
-func (c *chance) below(n int) int {
-	*c = *c*6364136223846793005 + 1442695040888963407
-	return int(*c>>33) % n
-}
-
-// pick is one of some texts.
-func (c *chance) pick(l ...string) string { return l[c.below(len(l))] }
+// chance makes texts, and what they stand for, by chance.
+type chance struct{ dice.Dice }
 
 // value is an expression's text, of so many levels at most, with parentheses that needn't be.
 func (c *chance) value(levels int) string {
-	switch k := c.below(6); {
+	switch k := c.Below(6); {
 	case levels == 0 || k == 0:
-		return c.pick("a", "b_1", "0", "77", "''", "'set x ; : '", "true", "false", "in(s)")
+		return c.Pick("a", "b_1", "0", "77", "''", "'set x ; : '", "true", "false", "in(s)")
 	case k == 1:
 		return "(" + c.value(levels-1) + ")"
 	case k == 2:
-		return c.pick("-", "not ", "---", "not not ") + c.value(levels-1)
+		return c.Pick("-", "not ", "---", "not not ") + c.value(levels-1)
 	}
-	return c.value(levels-1) + c.pick("+", " - ", "*", "/", "%", "<", "<=", ">", ">=", " = ", "!=", " or ", " and ") + c.value(levels-1)
+	return c.value(levels-1) + c.Pick("+", " - ", "*", "/", "%", "<", "<=", ">", ">=", " = ", "!=", " or ", " and ") + c.value(levels-1)
 }
 
 // event is an event's text.
 func (c *chance) event() string {
-	return c.pick("e", "e.a", "set.x", "error.execution", "x_1", "if.if")
+	return c.Pick("e", "e.a", "set.x", "error.execution", "x_1", "if.if")
 }
 
 // one is an act's text.
 func (c *chance) one(levels int) string {
 	s := ""
-	if c.below(3) == 0 {
-		s = "if " + c.value(c.below(levels+1)) + c.pick(":", " :", " : ")
+	if c.Below(3) == 0 {
+		s = "if " + c.value(c.Below(levels+1)) + c.Pick(":", " :", " : ")
 	}
-	switch c.below(5) {
+	switch c.Below(5) {
 	case 0:
-		return s + "set " + c.pick("x", "setx", "y_2") + " " + c.value(c.below(levels+1))
+		return s + "set " + c.Pick("x", "setx", "y_2") + " " + c.value(c.Below(levels+1))
 	case 1:
 		return s + "raise " + c.event()
 	case 2:
-		return s + "send " + c.event() + " " + c.pick("0", "1", "1048575", "1048576", strconv.Itoa(c.below(1048577)))
+		return s + "send " + c.event() + " " + c.Pick("0", "1", "1048575", "1048576", strconv.Itoa(c.Below(1048577)))
 	case 3:
 		return s + "cancel " + c.event()
 	}
-	return s + "log " + c.value(c.below(levels+1))
+	return s + "log " + c.value(c.Below(levels+1))
 }
 
 // some is so many acts' text.
@@ -204,7 +197,7 @@ func (c *chance) some(n, levels int) string {
 	for i := range l {
 		l[i] = c.one(levels)
 	}
-	return strings.Join(l, c.pick(";", " ;", " ; "))
+	return strings.Join(l, c.Pick(";", " ;", " ; "))
 }
 
 // lex is a line's tokens, of which it is known that they are right.

@@ -97,23 +97,23 @@ func TestTakeLong(t *testing.T) {
 	all := lex("a if e.f 1 1048577 'x' true in ( ) not - + < and ; : set raise send cancel log go")
 	found := map[api.Errno]int{}
 	taken := map[int]int{}
-	c := chance(1)
+	c := chance{1}
 	for range 40000 {
-		l, e, _ := tok.Lex(c.some(1+c.below(10), c.below(9)))
+		l, e, _ := tok.Lex(c.some(1+c.Below(10), c.Below(9)))
 		if e != api.OK {
 			continue
 		}
 		from := 0
-		switch c.below(5) {
+		switch c.Below(5) {
 		case 0:
-			l[c.below(len(l))] = all[c.below(len(all))]
+			l[c.Below(len(l))] = all[c.Below(len(all))]
 		case 1:
-			l = l[:c.below(len(l)+1)]
+			l = l[:c.Below(len(l)+1)]
 		case 2:
-			from = c.below(len(l)+3) - 1
+			from = c.Below(len(l)+3) - 1
 		case 3:
 			if at := slices.IndexFunc(l, func(x tok.Token) bool { return x.Kind == tok.Number }); at >= 0 {
-				l[at] = lex(c.pick("1048576", "1048577"))[0]
+				l[at] = lex(c.Pick("1048576", "1048577"))[0]
 			}
 		}
 		found[holds(t, l, from)]++
@@ -342,13 +342,13 @@ func TestTakeGreat(t *testing.T) {
 func TestTakeWild(t *testing.T) {
 	numbers := []int64{math.MinInt64, -1, 0, 1, 1 << 20, 1<<20 + 1, math.MaxInt64}
 	texts := []string{"", "set", "raise", "send", "cancel", "log", "if", ":", ";", "a", "a.b", "A", " ", "'", "1", "\x00\xff", times(100, "a")}
-	c := chance(2)
+	c := chance{2}
 	for range 50000 {
-		l := make([]tok.Token, c.below(12))
+		l := make([]tok.Token, c.Below(12))
 		for i := range l {
-			l[i] = tok.Token{Kind: c.below(8) - 1, Text: c.pick(texts...), N: numbers[c.below(len(numbers))], At: c.below(9) - 4}
+			l[i] = tok.Token{Kind: c.Below(8) - 1, Text: c.Pick(texts...), N: numbers[c.Below(len(numbers))], At: c.Below(9) - 4}
 		}
-		act.Take(l, c.below(15)-1)
+		act.Take(l, c.Below(15)-1)
 	}
 	const n = 1 << 20
 	for _, s := range []string{"(", "-", "not", "if", ";", ":", "log"} {

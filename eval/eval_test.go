@@ -8,6 +8,7 @@ import (
 	"testing"
 
 	"whirligig/api"
+	"whirligig/dice"
 	"whirligig/eval"
 	"whirligig/expr"
 	"whirligig/kind"
@@ -67,11 +68,11 @@ func TestEvalShort(t *testing.T) {
 
 // P5.1: expressions as great as they may be, of which some come to each kind of value, some tell each error, and some have parts that play none.
 func TestEvalLong(t *testing.T) {
-	c := chance(1)
+	c := chance{1}
 	kinds, errors := map[int]int{}, map[api.Errno]int{}
 	idle, most := 0, 0
 	for range 60000 {
-		p := c.some(1+c.below(3), c.below(8))
+		p := c.some(1+c.Below(3), c.Below(8))
 		x, e := expr.Read(p.text)
 		if e != api.OK {
 			continue
@@ -213,7 +214,7 @@ func TestEvalForm(t *testing.T) {
 
 // P5.2: what has a kind comes to a value of it, or tells one of three errors, whatever states there are.
 func TestEvalKind(t *testing.T) {
-	c := chance(3)
+	c := chance{3}
 	values := [4][]val.Value{
 		1: {val.Of(0), val.Of(1), val.Of(-1), val.Of(2), val.Of(math.MaxInt64), val.Of(math.MinInt64), val.Of(1 << 32)},
 		2: {val.Truth(true), val.Truth(false)},
@@ -225,18 +226,18 @@ func TestEvalKind(t *testing.T) {
 		s := kind.Scope{States: []string{"lit", "both", "n", "m", "off"}}
 		for _, name := range []string{"n", "k", "least", "both", "yes", "no", "t", "u", "n", "yes"} {
 			of := names().Vars[slices.IndexFunc(names().Vars, func(c eval.Cell) bool { return c.Name == name })].V.Kind
-			if c.below(10) == 0 {
-				of = 1 + c.below(3)
+			if c.Below(10) == 0 {
+				of = 1 + c.Below(3)
 			}
-			v.Vars = append(v.Vars, eval.Cell{Name: name, V: pick(&c, values[of])})
+			v.Vars = append(v.Vars, eval.Cell{Name: name, V: dice.One(&c.Dice, values[of])})
 			s.Vars = append(s.Vars, kind.Var{Name: name, Kind: of})
 		}
 		for _, name := range s.States {
-			if c.below(2) == 0 {
+			if c.Below(2) == 0 {
 				v.In = append(v.In, name)
 			}
 		}
-		x, e := expr.Read(c.some(1+c.below(3), c.below(6)).text)
+		x, e := expr.Read(c.some(1+c.Below(3), c.Below(6)).text)
 		if e != api.OK {
 			continue
 		}
@@ -266,12 +267,12 @@ func TestEvalKind(t *testing.T) {
 
 // P1: of whatever nodes, and values that may not be, each call ends.
 func TestWild(t *testing.T) {
-	c := chance(2)
+	c := chance{2}
 	ops := []int{math.MinInt, -1, 0, 1, 2, 6, 12, 14, 15, 16, 17, 18, math.MaxInt}
 	for range 20000 {
-		x := make(expr.Expr, c.below(40))
+		x := make(expr.Expr, c.Below(40))
 		for i := range x {
-			x[i] = expr.Node{Op: pick(&c, ops), L: c.below(40) - 1, R: pick(&c, ops), Name: pick(&c, []string{"", "n", "m"})}
+			x[i] = expr.Node{Op: dice.One(&c.Dice, ops), L: c.Below(40) - 1, R: dice.One(&c.Dice, ops), Name: dice.One(&c.Dice, []string{"", "n", "m"})}
 		}
 		eval.Eval(x, names())
 		eval.Holds(x, names())

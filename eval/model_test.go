@@ -5,6 +5,7 @@ import (
 	"strconv"
 
 	"whirligig/api"
+	"whirligig/dice"
 	"whirligig/eval"
 	"whirligig/expr"
 	"whirligig/val"
@@ -205,42 +206,34 @@ func (p part) told() (val.Value, api.Errno) {
 	return val.Value{}, p.v.(api.Errno)
 }
 
-// chance is a row of numbers that look as if they hung on nothing.
-type chance uint64
-
-func (c *chance) below(n int) int {
-	*c = *c*6364136223846793005 + 1442695040888963407
-	return int(*c>>33) % n
-}
-
-// pick is one of a row.
-func pick[T any](c *chance, l []T) T { return l[c.below(len(l))] }
+// chance makes texts, and what they stand for, by chance.
+type chance struct{ dice.Dice }
 
 // some is a part of so many levels at most, of which most parts are of the kind that is asked for.
 func (c *chance) some(k, levels int) part {
-	if c.below(40) == 0 {
-		k = c.below(4)
+	if c.Below(40) == 0 {
+		k = c.Below(4)
 	}
 	switch {
-	case levels == 0 || k == 0 || c.below(5) == 0:
-		return pick(c, leaves[k])
-	case k == val.Int && c.below(5) == 0:
+	case levels == 0 || k == 0 || c.Below(5) == 0:
+		return dice.One(&c.Dice, leaves[k])
+	case k == val.Int && c.Below(5) == 0:
 		return one("-", c.some(k, levels-1))
-	case k == val.Bool && c.below(5) == 0:
+	case k == val.Bool && c.Below(5) == 0:
 		return one("not", c.some(k, levels-1))
 	}
 	sign, of := "+", k
 	switch k {
 	case val.Int:
-		sign = pick(c, signs[:5])
+		sign = dice.One(&c.Dice, signs[:5])
 	case val.Bool:
-		sign = pick(c, append(signs[5:], "and", "or", "and", "or"))
+		sign = dice.One(&c.Dice, append(signs[5:], "and", "or", "and", "or"))
 		switch sign {
 		case "=", "!=":
-			of = 1 + c.below(3)
+			of = 1 + c.Below(3)
 		case "and", "or":
 		default:
-			of = 1 + 2*c.below(2)
+			of = 1 + 2*c.Below(2)
 		}
 	}
 	return two(sign, c.some(of, levels-1), c.some(of, levels-1))

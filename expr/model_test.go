@@ -4,6 +4,7 @@ import (
 	"strings"
 
 	"whirligig/api"
+	"whirligig/dice"
 	"whirligig/expr"
 	"whirligig/tok"
 	"whirligig/val"
@@ -147,22 +148,17 @@ func expected(l []tok.Token, from int) (x expr.Expr, next int, e api.Errno) {
 	return x, r.at, api.OK
 }
 
-// chance is a row of numbers that look as if they hung on nothing.
-type chance uint64
-
-func (c *chance) below(n int) int {
-	*c = *c*6364136223846793005 + 1442695040888963407
-	return int(*c>>33) % n
-}
+// chance makes texts, and what they stand for, by chance.
+type chance struct{ dice.Dice }
 
 // some is an expression's text, of so many levels at most, with parentheses that needn't be.
 func (c *chance) some(levels int) string {
 	leaves := []string{"a", "b_1", "0", "7", "9223372036854775807", "''", "'a (b'", "true", "false", "in(s)", "in ( t )"}
 	ops := []string{"or", "and", "<", "<=", ">", ">=", "=", "!=", "+", "-", "*", "/", "%"}
-	k := c.below(10)
+	k := c.Below(10)
 	switch {
 	case levels == 0 || k == 0:
-		return leaves[c.below(len(leaves))]
+		return leaves[c.Below(len(leaves))]
 	case k == 1:
 		return "(" + c.some(levels-1) + ")"
 	case k == 2:
@@ -170,8 +166,8 @@ func (c *chance) some(levels int) string {
 	case k == 3:
 		return "not " + c.some(levels-1)
 	}
-	s := c.some(levels-1) + " " + ops[c.below(len(ops))] + " " + c.some(levels-1)
-	if c.below(3) == 0 {
+	s := c.some(levels-1) + " " + ops[c.Below(len(ops))] + " " + c.some(levels-1)
+	if c.Below(3) == 0 {
 		return "(" + s + ")"
 	}
 	return s

@@ -55,24 +55,24 @@ func TestParseShort(t *testing.T) {
 func TestParseLong(t *testing.T) {
 	all := lex("a if a.b 1 'x' true false in ( ) not - + * / % < <= > >= = != and or ; :")
 	found := map[api.Errno]int{}
-	c := chance(1)
+	c := chance{1}
 	for range 20000 {
-		s := times(c.below(8), "-") + c.some(c.below(8))
-		for range c.below(5) {
-			s += " + " + c.some(c.below(4))
+		s := times(c.Below(8), "-") + c.some(c.Below(8))
+		for range c.Below(5) {
+			s += " + " + c.some(c.Below(4))
 		}
 		l, e, _ := tok.Lex(s)
 		if e != api.OK {
 			continue
 		}
 		from := 0
-		switch c.below(4) {
+		switch c.Below(4) {
 		case 0:
-			l[c.below(len(l))] = all[c.below(len(all))]
+			l[c.Below(len(l))] = all[c.Below(len(all))]
 		case 1:
-			l = l[:c.below(len(l))]
+			l = l[:c.Below(len(l))]
 		case 2:
-			from = c.below(len(l)+3) - 1
+			from = c.Below(len(l)+3) - 1
 		}
 		holds(t, l, from)
 		_, _, e = expr.Parse(l, from)

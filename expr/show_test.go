@@ -36,10 +36,10 @@ func pairs(s string) [][2]int {
 
 // P3.2: what is shown is read again, and not one pair of its parentheses could be left out.
 func TestShowLeast(t *testing.T) {
-	c := chance(2)
+	c := chance{2}
 	shown, needed := 0, 0
 	for range 20000 {
-		s := c.some(c.below(6))
+		s := c.some(c.Below(6))
 		x, e := expr.Read(s)
 		if e != api.OK {
 			continue
@@ -222,29 +222,29 @@ func TestRightChanged(t *testing.T) {
 	values := []val.Value{{}, val.Of(0), val.Of(-1), val.Of(5), val.Word(""), val.Word("a"), val.Word("'"), val.Word(times(49, "x")), val.Truth(true), val.Truth(false), {Kind: 2, N: 2}, {Kind: 1, S: "a"}, {Kind: 4}, {N: 1}, {Kind: -1 << 63}}
 	names := []string{"", "a", "s2", "if", "A", "a.b", "a ", "1", times(16, "n"), times(17, "n"), "in", "not", "+"}
 	numbers := []int{-1 << 63, -1, 0, 1, 2, 3, 7, 14, 15, 16, 17, 18, 1<<63 - 1}
-	c := chance(3)
+	c := chance{3}
 	right, wrong := 0, 0
 	for range 30000 {
-		x, e := expr.Read(c.some(c.below(6)))
+		x, e := expr.Read(c.some(c.Below(6)))
 		if e != api.OK {
 			continue
 		}
-		n := &x[c.below(len(x))]
-		switch c.below(7) {
+		n := &x[c.Below(len(x))]
+		switch c.Below(7) {
 		case 0:
-			n.Op = numbers[c.below(len(numbers))]
+			n.Op = numbers[c.Below(len(numbers))]
 		case 1:
-			n.L = numbers[c.below(len(numbers))]
+			n.L = numbers[c.Below(len(numbers))]
 		case 2:
-			n.R = numbers[c.below(len(numbers))]
+			n.R = numbers[c.Below(len(numbers))]
 		case 3:
-			n.V = values[c.below(len(values))]
+			n.V = values[c.Below(len(values))]
 		case 4:
-			n.Name = names[c.below(len(names))]
+			n.Name = names[c.Below(len(names))]
 		case 5:
-			x = x[:c.below(len(x)+1)]
+			x = x[:c.Below(len(x)+1)]
 		case 6:
-			*n = x[c.below(len(x))]
+			*n = x[c.Below(len(x))]
 		}
 		want := may(x)
 		if x.Right() != want {
@@ -317,11 +317,11 @@ func TestSize(t *testing.T) {
 // P3.2: of whatever nodes, each call ends.
 func TestWild(t *testing.T) {
 	numbers := []int{-1 << 63, -1, 0, 1, 2, 6, 15, 16, 17, 18, 30, 1<<63 - 1}
-	c := chance(4)
+	c := chance{4}
 	for range 20000 {
-		x := make(expr.Expr, c.below(40))
+		x := make(expr.Expr, c.Below(40))
 		for i := range x {
-			x[i] = expr.Node{Op: numbers[c.below(len(numbers))], L: c.below(40) - 1, R: numbers[c.below(len(numbers))]}
+			x[i] = expr.Node{Op: numbers[c.Below(len(numbers))], L: c.Below(40) - 1, R: numbers[c.Below(len(numbers))]}
 		}
 		x.Right()
 		x.Size()

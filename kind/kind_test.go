@@ -7,6 +7,7 @@ import (
 	"testing"
 
 	"whirligig/api"
+	"whirligig/dice"
 	"whirligig/expr"
 	"whirligig/kind"
 	"whirligig/val"
@@ -68,12 +69,12 @@ func TestOfShort(t *testing.T) {
 // P4.1: expressions as great as they may be, of which some have a kind, and some have parts of a wrong one, or names that aren't there.
 func TestOfLong(t *testing.T) {
 	s := names()
-	c := chance(1)
+	c := chance{1}
 	found := map[int]int{}
 	errors := map[api.Errno]int{}
 	most := 0
 	for range 30000 {
-		tree := c.some(1+c.below(3), c.below(8))
+		tree := c.some(1+c.Below(3), c.Below(8))
 		x, e := expr.Read(tree.line())
 		if e != api.OK {
 			continue
@@ -174,15 +175,15 @@ func TestOfForm(t *testing.T) {
 
 // P1: of whatever nodes, and kinds that are none, each call ends.
 func TestWild(t *testing.T) {
-	c := chance(2)
+	c := chance{2}
 	ops := []int{math.MinInt, -1, 0, 1, 2, 6, 12, 15, 16, 17, 18, math.MaxInt}
 	for range 20000 {
-		x := make(expr.Expr, c.below(40))
+		x := make(expr.Expr, c.Below(40))
 		for i := range x {
-			x[i] = expr.Node{Op: one(&c, ops), L: c.below(40) - 1, R: one(&c, ops), Name: one(&c, []string{"", "n", "m"})}
+			x[i] = expr.Node{Op: dice.One(&c.Dice, ops), L: c.Below(40) - 1, R: dice.One(&c.Dice, ops), Name: dice.One(&c.Dice, []string{"", "n", "m"})}
 		}
 		kind.Of(x, names())
-		kind.Is(x, names(), one(&c, kinds))
+		kind.Is(x, names(), dice.One(&c.Dice, kinds))
 	}
 	for _, k := range kinds {
 		for _, other := range kinds {

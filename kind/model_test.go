@@ -2,6 +2,7 @@ package kind_test
 
 import (
 	"whirligig/api"
+	"whirligig/dice"
 	"whirligig/expr"
 	"whirligig/kind"
 )
@@ -74,34 +75,26 @@ func (t *tree) kind() (int, api.Errno) {
 	return k, api.OK
 }
 
-// chance is a row of numbers that look as if they hung on nothing.
-type chance uint64
-
-func (c *chance) below(n int) int {
-	*c = *c*6364136223846793005 + 1442695040888963407
-	return int(*c>>33) % n
-}
-
-// one is one of a row.
-func one[T any](c *chance, l []T) T { return l[c.below(len(l))] }
+// chance makes texts, and what they stand for, by chance.
+type chance struct{ dice.Dice }
 
 // some is a tree of so many levels at most, of which most parts are of the kind that is asked for.
 func (c *chance) some(k, levels int) *tree {
-	if c.below(40) == 0 {
-		k = c.below(4)
+	if c.Below(40) == 0 {
+		k = c.Below(4)
 	}
-	if levels == 0 || c.below(4) == 0 {
-		return &tree{text: one(c, [][]string{{"m", "s", "in(n)", "in(m)"}, {"n", "both", "0", "9223372036854775807"}, {"b", "true", "false", "in(s)", "in(both)"}, {"t", "''", "'n'"}}[k])}
+	if levels == 0 || c.Below(4) == 0 {
+		return &tree{text: dice.One(&c.Dice, [][]string{{"m", "s", "in(n)", "in(m)"}, {"n", "both", "0", "9223372036854775807"}, {"b", "true", "false", "in(s)", "in(both)"}, {"t", "''", "'n'"}}[k])}
 	}
 	sign, part := "+", k
 	switch k {
 	case 1:
-		sign = one(c, []string{"*", "/", "%", "-", "+"})
+		sign = dice.One(&c.Dice, []string{"*", "/", "%", "-", "+"})
 	case 2:
-		sign = one(c, []string{"and", "or", "=", "!=", "<", "<=", ">", ">="})
-		part = map[string][]int{"and": {2, 2, 2}, "or": {2, 2, 2}, "=": {1, 2, 3}, "!=": {1, 2, 3}, "<": {1, 3, 3}, "<=": {1, 1, 3}, ">": {1, 3, 3}, ">=": {1, 1, 3}}[sign][c.below(3)]
+		sign = dice.One(&c.Dice, []string{"and", "or", "=", "!=", "<", "<=", ">", ">="})
+		part = map[string][]int{"and": {2, 2, 2}, "or": {2, 2, 2}, "=": {1, 2, 3}, "!=": {1, 2, 3}, "<": {1, 3, 3}, "<=": {1, 1, 3}, ">": {1, 3, 3}, ">=": {1, 1, 3}}[sign][c.Below(3)]
 	}
-	if c.below(4) == 0 && (k == 1 || k == 2) {
+	if c.Below(4) == 0 && (k == 1 || k == 2) {
 		return &tree{[]string{1: "-", 2: "not"}[k], []*tree{c.some(k, levels-1)}}
 	}
 	return &tree{sign, []*tree{c.some(part, levels-1), c.some(part, levels-1)}}

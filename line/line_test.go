@@ -134,18 +134,18 @@ func TestTextChangesNothing(t *testing.T) {
 // P1: of whatever lines, each call ends.
 func TestTextWild(t *testing.T) {
 	texts := []string{"", "a", "a.b", "if", "*", " ", "'", "\x00\xff", times(1000, "a ")}
-	c := chance(3)
+	c := chance{3}
 	some := func() []act.Act {
-		l := make([]act.Act, c.below(3))
+		l := make([]act.Act, c.Below(3))
 		for i := range l {
-			l[i] = act.Act{Kind: c.below(9) - 2, Name: c.pick(texts...), N: int64(c.below(9) - 4), X: make(expr.Expr, c.below(40))}
+			l[i] = act.Act{Kind: c.Below(9) - 2, Name: c.Pick(texts...), N: int64(c.Below(9) - 4), X: make(expr.Expr, c.Below(40))}
 		}
 		return l
 	}
 	for _, kind := range []int{math.MinInt, -1, 0, 1, 2, 3, 4, 5, 6, 7, 8, 9, 10, 11, 12, 13, math.MaxInt} {
 		for range 300 {
-			n := line.Line{Kind: kind, Name: c.pick(texts...), Start: c.pick(texts...), V: val.Value{Kind: c.below(6) - 1, N: int64(c.below(5) - 2), S: c.pick(texts...)}, Do: some()}
-			n.Trans = line.Trans{Event: c.pick(texts...), If: expr.Expr{{Op: c.below(20) - 1, L: c.below(5) - 2, R: c.below(5) - 2}}, Goes: texts[:c.below(9)], Inner: c.below(2) == 0, Do: some()}
+			n := line.Line{Kind: kind, Name: c.Pick(texts...), Start: c.Pick(texts...), V: val.Value{Kind: c.Below(6) - 1, N: int64(c.Below(5) - 2), S: c.Pick(texts...)}, Do: some()}
+			n.Trans = line.Trans{Event: c.Pick(texts...), If: expr.Expr{{Op: c.Below(20) - 1, L: c.Below(5) - 2, R: c.Below(5) - 2}}, Goes: texts[:c.Below(9)], Inner: c.Below(2) == 0, Do: some()}
 			if s := n.Text(); (kind < line.Chart || kind > line.End) && s != "" {
 				t.Fatal(n, s)
 			}

@@ -7,6 +7,7 @@ import (
 
 	"whirligig/act"
 	"whirligig/api"
+	"whirligig/dice"
 	"whirligig/expr"
 	"whirligig/line"
 	"whirligig/tok"
@@ -224,63 +225,47 @@ func acts(a, b []act.Act) bool {
 	})
 }
 
-// chance is a row of numbers that look as if they hung on nothing.
-type chance uint64
+// chance makes texts, and what they stand for, by chance.
+type chance struct{ dice.Dice }
 
-func (c *chance) below(n int) int {
-	*c = *c*6364136223846793005 + 1442695040888963407
-	return int(*c>>33) % n
-}
-
-// pick is one of some texts.
-func (c *chance) pick(l ...string) string { return l[c.below(len(l))] }
-
-// maybe is a text, or nothing.
-func (c *chance) maybe(s string) string {
-	if c.below(2) == 0 {
-		return ""
-	}
-	return s
-}
-
-func (c *chance) name() string { return c.pick("a", "b_1", "iff", "goes", times(16, "n")) }
+func (c *chance) name() string { return c.Pick("a", "b_1", "iff", "goes", times(16, "n")) }
 
 // expression is an expression's text, of so many levels at most.
 func (c *chance) expression(levels int) string {
-	if levels == 0 || c.below(4) == 0 {
-		return c.pick("x", "7", "'if a go b'", "true", "in(s)", "(x)", "-1")
+	if levels == 0 || c.Below(4) == 0 {
+		return c.Pick("x", "7", "'if a go b'", "true", "in(s)", "(x)", "-1")
 	}
-	return c.pick("", "not ", "-") + "(" + c.expression(levels-1) + c.pick("+", " and ", "<", "*", " or ") + c.expression(levels-1) + ")"
+	return c.Pick("", "not ", "-") + "(" + c.expression(levels-1) + c.Pick("+", " and ", "<", "*", " or ") + c.expression(levels-1) + ")"
 }
 
 // acts is the text of a few acts, now and then of too many.
 func (c *chance) acts() string {
-	l := make([]string, 1+c.below(3)*c.below(6))
+	l := make([]string, 1+c.Below(3)*c.Below(6))
 	for i := range l {
-		l[i] = c.maybe("if "+c.expression(1)+":") + c.pick("set x "+c.expression(1), "raise e.f", "send e 5", "cancel go.on", "log 'do'", "send e "+c.pick("0", "1048576", "1048576", "1048577"))
+		l[i] = c.Maybe("if "+c.expression(1)+":") + c.Pick("set x "+c.expression(1), "raise e.f", "send e 5", "cancel go.on", "log 'do'", "send e "+c.Pick("0", "1048576", "1048576", "1048577"))
 	}
-	return strings.Join(l, c.pick(";", " ; "))
+	return strings.Join(l, c.Pick(";", " ; "))
 }
 
 // trans is what a transition has behind its event, as a text.
 func (c *chance) trans() string {
-	s := c.maybe(" if " + c.expression(c.below(8)))
-	if c.below(3) > 0 {
+	s := c.Maybe(" if " + c.expression(c.Below(8)))
+	if c.Below(3) > 0 {
 		s += " go"
-		for range 1 + c.below(5) {
-			s += c.pick(" ", "  ") + c.name()
+		for range 1 + c.Below(5) {
+			s += c.Pick(" ", "  ") + c.name()
 		}
 	}
-	return s + c.maybe(" inner") + c.maybe(" do "+c.acts())
+	return s + c.Maybe(" inner") + c.Maybe(" do "+c.acts())
 }
 
 // line is a line's text.
 func (c *chance) line() string {
-	switch word := strings.Fields(grammar[1+c.below(12)])[0]; word {
+	switch word := strings.Fields(grammar[1+c.Below(12)])[0]; word {
 	case "chart", "state":
-		return word + " " + c.name() + c.maybe(" "+c.name())
+		return word + " " + c.name() + c.Maybe(" "+c.name())
 	case "var":
-		return word + " " + c.name() + c.pick(" 0", " -0", "-7", " - 9223372036854775807", " 9223372036854775807", " true", " false", " 'true'", "''", " ' a  b'")
+		return word + " " + c.name() + c.Pick(" 0", " -0", "-7", " - 9223372036854775807", " 9223372036854775807", " true", " false", " 'true'", "''", " ' a  b'")
 	case "parallel", "final":
 		return word + " " + c.name()
 	case "deep", "shallow":
@@ -288,7 +273,7 @@ func (c *chance) line() string {
 	case "enter", "exit":
 		return word + " " + c.acts()
 	case "on":
-		return word + " " + c.pick("*", "e.f", "go.do", c.name()) + c.trans()
+		return word + " " + c.Pick("*", "e.f", "go.do", c.name()) + c.trans()
 	case "auto":
 		return word + c.trans()
 	default:

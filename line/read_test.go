@@ -310,15 +310,15 @@ func TestParseLong(t *testing.T) {
 	all := lex("a if e.f 1 1048577 'x' true in ( ) not - + < and ; : set raise send cancel log go inner do on auto state end *")
 	found := map[api.Errno]int{}
 	kinds := map[int]int{}
-	c := chance(1)
+	c := chance{1}
 	for range 60000 {
 		s := c.line()
-		if l, e, _ := tok.Lex(s); e == api.OK && c.below(3) == 0 {
-			switch at := c.below(len(l)); c.below(4) {
+		if l, e, _ := tok.Lex(s); e == api.OK && c.Below(3) == 0 {
+			switch at := c.Below(len(l)); c.Below(4) {
 			case 0:
-				l[at] = all[c.below(len(all))]
+				l[at] = all[c.Below(len(all))]
 			case 1:
-				l = slices.Insert(l, at, all[c.below(len(all))])
+				l = slices.Insert(l, at, all[c.Below(len(all))])
 			case 2:
 				l = slices.Delete(l, at, at+1)
 			case 3:
@@ -344,12 +344,12 @@ func TestParseLong(t *testing.T) {
 
 // P7.1, P1: of whatever bytes, each call ends.
 func TestParseWild(t *testing.T) {
-	c := chance(2)
+	c := chance{2}
 	for range 50000 {
 		b := []byte(c.line())
-		for range c.below(3) {
+		for range c.Below(3) {
 			if len(b) > 0 {
-				b[c.below(len(b))] = byte(c.below(256))
+				b[c.Below(len(b))] = byte(c.Below(256))
 			}
 		}
 		holds(t, string(b))

@@ -8,6 +8,7 @@ import (
 	"testing"
 
 	"whirligig/api"
+	"whirligig/dice"
 	"whirligig/tok"
 )
 
@@ -276,21 +277,16 @@ func TestLexShortLines(t *testing.T) {
 // P2.1, P2.2
 func TestLexLongerLines(t *testing.T) {
 	pieces := []string{" ", "  ", "a", "if", "state", "abcdefgh", "z_9", ".", ".b", "0", "7", "10", "9223372036854775807", "99999", "'", "''", "'a b'", "'abcdefghijklmnopqrstuvwxyz'", "<", "=", ">", "!=", "!", "(", ")", ";", ":", "+", "-", "*", "/", "%", "B", "\x7f"}
-	// A rule of its own, with wrap-round, picks the pieces.
-	x := uint64(1)
-	next := func(n int) int {
-		x = x*6364136223846793005 + 1442695040888963407
-		return int(x>>33) % n
-	}
+	d := dice.Dice(1)
 	for range 40000 {
 		var b strings.Builder
 		most := len(pieces)
-		if next(4) > 0 {
+		if d.Below(4) > 0 {
 			most -= 2 // lines without the bytes that no token has come further
 		}
-		for range next(60) {
-			b.WriteString(pieces[next(most)])
-			if next(3) > 0 {
+		for range d.Below(60) {
+			b.WriteString(pieces[d.Below(most)])
+			if d.Below(3) > 0 {
 				b.WriteByte(' ')
 			}
 		}
