@@ -574,11 +574,11 @@ func TestCheckShort(t *testing.T) {
 // P9.1: charts of all sizes, of which some are valid, and others have a few faults.
 func TestCheckLong(t *testing.T) {
 	found, great := map[api.Errno]int{}, map[bool]int{}
-	c := chance{Dice: 1}
+	c := dice.Charts{Dice: 1}
 	wrong := 0
 	for i := range 12000 {
-		c.seldom = []int{15, 60, 200, 1 << 20}[i%4]
-		s, e, _ := chart.Parse(c.chart(1 + c.Below(48)))
+		c.Seldom = []int{15, 60, 200, 1 << 20}[i%4]
+		s, e, _ := chart.Parse(c.Text(1 + c.Below(48)))
 		if e != api.OK {
 			wrong++
 			continue
@@ -601,9 +601,9 @@ func TestCheckLong(t *testing.T) {
 
 // What is handed in stays as it is, its spare room too.
 func TestCheckStays(t *testing.T) {
-	c := chance{Dice: 2, seldom: 100}
+	c := dice.Charts{Dice: 2, Seldom: 100}
 	for range 300 {
-		text := c.chart(20)
+		text := c.Text(20)
 		a, e, _ := chart.Parse(text)
 		if e != api.OK {
 			continue
@@ -622,7 +622,7 @@ func TestCheckStays(t *testing.T) {
 
 // P1: of whatever charts, the call ends.
 func TestCheckWild(t *testing.T) {
-	c := chance{Dice: 3}
+	c := dice.Charts{Dice: 3}
 	number := func() int {
 		return dice.One(&c.Dice, []int{math.MinInt, -2, -1, 0, 1, 2, 3, 4, 5, 6, 7, math.MaxInt})
 	}
