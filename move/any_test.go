@@ -10,6 +10,7 @@ import (
 	"whirligig/dice"
 	"whirligig/line"
 	"whirligig/move"
+	"whirligig/reading"
 	"whirligig/snap"
 	"whirligig/table"
 )
@@ -24,12 +25,12 @@ func chosen(d *dice.Dice, most, below int) []int {
 }
 
 // holds holds what is told of a snapshot against what it should be, for some transitions, states and exits.
-func (m *model) holds(t *testing.T, d *dice.Dice, text string, x table.Table, s snap.Snap) {
+func (m model) holds(t *testing.T, d *dice.Dice, text string, x table.Table, s snap.Snap) {
 	t.Helper()
-	for g, w := range m.ways {
-		want, is := 0, m.domain(s, w)
+	for g, w := range m.Ways {
+		want, is := 0, m.Domain(s, w)
 		if is != nil {
-			want = is.at
+			want = is.At
 		}
 		if at, ok := move.Domain(x, s, g); at != want || ok != (is != nil) {
 			t.Fatalf("%s:\n%v: %d: %d %v, not %d", text, s, g, at, ok, want)
@@ -37,38 +38,38 @@ func (m *model) holds(t *testing.T, d *dice.Dice, text string, x table.Table, s 
 		m.same(t, text, x, s, g)
 	}
 	for range 4 {
-		var l []*node
-		places := chosen(d, 5, len(m.all)-1)
+		var l []*reading.State
+		places := chosen(d, 5, len(m.All)-1)
 		for i := range places {
 			places[i]++
-			l = append(l, m.all[places[i]])
+			l = append(l, m.All[places[i]])
 		}
-		if got, want := move.Targets(x, s, places...), m.targets(s, l).set(); got != want {
+		if got, want := move.Targets(x, s, places...), m.Targets(s, l).Set(); got != want {
 			t.Fatalf("%s:\n%v: %v: %s, not %s", text, s, places, got.Show(), want.Show())
 		}
-		if len(m.ways) > 0 {
-			m.same(t, text, x, s, chosen(d, 5, len(m.ways))...)
+		if len(m.Ways) > 0 {
+			m.same(t, text, x, s, chosen(d, 5, len(m.Ways))...)
 		}
-		m.remembers(t, text, x, s, s.In&bits.Of(chosen(d, 9, len(m.all))...))
+		m.remembers(t, text, x, s, s.In&bits.Of(chosen(d, 9, len(m.All))...))
 	}
 	m.remembers(t, text, x, s, s.In)
 }
 
 // same holds what some transitions leave, and enter, against what they should.
-func (m *model) same(t *testing.T, text string, x table.Table, s snap.Snap, goes ...int) {
+func (m model) same(t *testing.T, text string, x table.Table, s snap.Snap, goes ...int) {
 	t.Helper()
-	if got, want := move.Exits(x, s, goes...), m.exits(s, goes); got != want {
+	if got, want := move.Exits(x, s, goes...), m.Exits(s, m.ways(goes...)...); got != want {
 		t.Fatalf("%s:\n%v: %v: %s, not %s, left", text, s, goes, got.Show(), want.Show())
 	}
-	if got, want := move.Enters(x, s, goes...), m.enters(s, goes); got != want {
+	if got, want := move.Enters(x, s, goes...), m.Enters(s, m.ways(goes...)...); got != want {
 		t.Fatalf("%s:\n%v: %v: %s, not %s, entered", text, s, goes, got.Show(), want.Show())
 	}
 }
 
 // remembers holds what histories remember against what they should.
-func (m *model) remembers(t *testing.T, text string, x table.Table, s snap.Snap, exits bits.Set) {
+func (m model) remembers(t *testing.T, text string, x table.Table, s snap.Snap, exits bits.Set) {
 	t.Helper()
-	if got, want := move.Remember(x, s, exits), m.remember(s, exits); !slices.Equal(got, want) {
+	if got, want := move.Remember(x, s, exits), m.Remember(s, exits); !slices.Equal(got, want) {
 		t.Fatalf("%s:\n%v: %s: %v, not %v", text, s, exits.Show(), got, want)
 	}
 }
@@ -78,11 +79,11 @@ func TestAny(t *testing.T) {
 	d := dice.Dice(15)
 	for _, text := range slices.Concat(charts(1, 200, 10), charts(2, 100, 48), grown(5, 200, 8), grown(6, 100, 25)) {
 		x, m := tableAndModel(text)
-		if got, want := move.First(x, snap.Begin(x)), m.begins(); got != want {
+		if got, want := move.First(x, snap.Begin(x)), m.Begins(); got != want {
 			t.Fatal(text, got.Show(), want.Show())
 		}
 		for range 20 {
-			s := m.chance(&d)
+			s := m.Chance(&d)
 			if !s.Legal(x) {
 				t.Fatal(text, s)
 			}
@@ -93,18 +94,12 @@ func TestAny(t *testing.T) {
 	}
 }
 
-// tableAndModel is the table of a chart that is valid, and what its text tells.
-func tableAndModel(text string) (table.Table, *model) {
-	x, _ := tableOf(text)
-	return x, read(text)
-}
-
 // picked are some transitions of active states, made by chance, no two of which leave a common state.
-func (m *model) picked(d *dice.Dice, x table.Table, s snap.Snap) []int {
+func (m model) picked(d *dice.Dice, x table.Table, s snap.Snap) []int {
 	var l []int
 	for range 8 {
-		g := d.Below(len(m.ways))
-		if s.In.Has(m.ways[g].source.at) && !slices.Contains(l, g) && move.Exits(x, s, g).Meet(move.Exits(x, s, l...)) == 0 {
+		g := d.Below(len(m.Ways))
+		if s.In.Has(m.Ways[g].Source.At) && !slices.Contains(l, g) && move.Exits(x, s, g).Meet(move.Exits(x, s, l...)) == 0 {
 			l = append(l, g)
 		}
 	}
@@ -117,7 +112,7 @@ func TestWalks(t *testing.T) {
 	several, pasts, nested := 0, 0, 0
 	for _, text := range slices.Concat(charts(3, 200, 12), charts(4, 100, 48), grown(7, 200, 8), grown(8, 100, 25)) {
 		x, m := tableAndModel(text)
-		if len(m.ways) == 0 {
+		if len(m.Ways) == 0 {
 			continue
 		}
 		s := snap.Begin(x)
@@ -126,7 +121,7 @@ func TestWalks(t *testing.T) {
 			goes := m.picked(&d, x, s)
 			exits := move.Exits(x, s, goes...)
 			past := move.Remember(x, s, exits)
-			if !slices.Equal(past, m.remember(s, exits)) {
+			if !slices.Equal(past, m.Remember(s, exits)) {
 				t.Fatal(text, s, goes, past)
 			}
 			s.Past = past
@@ -135,7 +130,7 @@ func TestWalks(t *testing.T) {
 				t.Fatal(text, s, goes, got.Show(), exits.Show())
 			}
 			enters := move.Enters(x, s, goes...)
-			if want := m.apart(s, goes); enters != want || m.enters(s, goes) != want {
+			if want := m.apart(s, goes); enters != want || m.Enters(s, m.ways(goes...)...) != want {
 				t.Fatal(text, s, goes, enters.Show(), want.Show())
 			}
 			s.In = s.In.Less(exits)
@@ -155,10 +150,10 @@ func TestWalks(t *testing.T) {
 				several++
 			}
 			for _, g := range goes {
-				for _, n := range m.ways[g].goes {
-					if n.past() && s.Past[n.at] != 0 {
+				for _, n := range m.Ways[g].To {
+					if n.IsPast() && s.Past[n.At] != 0 {
 						pasts++
-						if s.Past[n.at].Count() > 1 {
+						if s.Past[n.At].Count() > 1 {
 							nested++
 						}
 					}

@@ -84,7 +84,7 @@ func at(t *testing.T, ways []string, in, past string) room {
 			text = strings.Replace(text, word+source+"\n", word+source+"\non e "+says+"\n", 1)
 		}
 	}
-	x, _ := made(t, text)
+	x := made(t, text)
 	r := room{x, snap.Begin(x), t}
 	if len(x.Goes) != len(ways) {
 		t.Fatal(ways)
@@ -419,7 +419,7 @@ func TestRemember(t *testing.T) {
 		}
 	}
 	// There is a set for each state.
-	x, _ := made(t, "chart c | state a | end")
+	x := made(t, "chart c | state a | end")
 	if got := move.Remember(x, snap.Begin(x), bits.Of(1)); !slices.Equal(got, []bits.Set{0, 0}) {
 		t.Error(got)
 	}
@@ -440,7 +440,7 @@ func TestFirst(t *testing.T) {
 		"c p | state a | end | parallel p | state b | end | end":                bits.Of(2, 3),
 		"c | parallel p | state a e | state b | end | final e | end | shallow h b | end | parallel q | state f | end | state g | state i | end | end | end | end": bits.Of(1, 2, 4, 6, 7, 8, 9),
 	} {
-		x, _ := made(t, "chart "+text)
+		x := made(t, "chart "+text)
 		s := snap.Begin(x)
 		if got := move.First(x, s); got != want {
 			t.Error(text, got.Show(), "not", want.Show())

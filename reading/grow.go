@@ -1,4 +1,4 @@
-package move_test
+package reading
 
 import (
 	"strconv"
@@ -7,8 +7,15 @@ import (
 	"whirligig/dice"
 )
 
-// grower makes charts by chance, with as many histories and parallel states as there may be, and no acts.
+// Grove is what charts have that are made by chance, with as many histories and parallel states as there may be, and no acts.
+type Grove struct {
+	Vars  []string // the lines of all variables
+	Heads []string // what a transition may begin with; # stands for the name of a state
+}
+
+// grower makes charts of a grove.
 type grower struct {
+	Grove
 	dice.Dice
 	all  []*plant
 	room int // for so many states more
@@ -73,11 +80,29 @@ func (g *grower) show(l []string, in *plant) []string {
 		}
 		l = g.show(append(l, s), n)
 		for n.word != "final" && g.Below(3) > 0 {
-			l = append(l, "on e go "+g.targets()+g.Maybe(" inner"))
+			l = append(l, g.way())
 		}
 		l = append(l, "end")
 	}
 	return l
+}
+
+// way is the line of a transition.
+func (g *grower) way() string {
+	s := g.Pick(g.Heads...)
+	if s == "auto" || g.Below(6) > 0 {
+		s += " go " + g.targets()
+	}
+	return strings.ReplaceAll(s, "#", g.state()) + g.Maybe(" inner")
+}
+
+// state is the name of a state that is no history.
+func (g *grower) state() string {
+	n := dice.One(&g.Dice, g.all)
+	if n.word == "deep" || n.word == "shallow" {
+		return g.state()
+	}
+	return n.name
 }
 
 // targets are names of states that may be gone to together.
@@ -101,9 +126,9 @@ func (g *grower) targets() string {
 	return strings.Join(l[:min(4, 1+g.Below(len(l)))], " ")
 }
 
-// grown are so many valid charts with many histories, and at least so many states.
-func grown(seed, many, least int) []string {
-	g := grower{Dice: dice.Dice(seed)}
+// Charts are so many valid charts with many histories, and at least so many states.
+func (v Grove) Charts(seed, many, least int) []string {
+	g := grower{Grove: v, Dice: dice.Dice(seed)}
 	var l []string
 	for len(l) < many {
 		root := &plant{word: "chart"}
@@ -111,8 +136,9 @@ func grown(seed, many, least int) []string {
 		for g.room > 0 {
 			g.grow(root, 1)
 		}
-		text := strings.Join(g.show([]string{"chart c"}, root), "\n")
-		if _, ok := tableOf(text); ok {
+		lines := append([]string{"chart c"}, v.Vars...)
+		text := strings.Join(g.show(lines, root), "\n")
+		if _, ok := Table(text); ok {
 			l = append(l, text)
 		}
 	}
