@@ -5,6 +5,7 @@ import (
 	"slices"
 	"strings"
 
+	"whirligig/act"
 	"whirligig/api"
 	"whirligig/bits"
 	"whirligig/line"
@@ -13,10 +14,11 @@ import (
 // State is a state of a chart, as its text tells it; the root is one, too.
 type State struct {
 	line.Line
-	At   int // how many states stand ahead of it
-	In   *State
-	Kids []*State // its children, histories too
-	Ways []*Way
+	At          int // how many states stand ahead of it
+	In          *State
+	Kids        []*State // its children, histories too
+	Ways        []*Way
+	Enter, Exit [][]act.Act
 }
 
 // Way is a transition, as its text tells it.
@@ -50,6 +52,12 @@ func Read(text string) *Chart {
 		case n.Kind == line.On || n.Kind == line.Auto:
 			in := open[len(open)-1]
 			in.Ways = append(in.Ways, &Way{Trans: n.Trans, Source: in})
+		case n.Kind == line.Enter:
+			in := open[len(open)-1]
+			in.Enter = append(in.Enter, n.Do)
+		case n.Kind == line.Exit:
+			in := open[len(open)-1]
+			in.Exit = append(in.Exit, n.Do)
 		case n.Kind <= line.Shallow:
 			if one := c.add(n, open); !one.IsPast() {
 				open = append(open, one)

@@ -8,6 +8,7 @@ import (
 	"whirligig/bits"
 	"whirligig/dice"
 	"whirligig/line"
+	"whirligig/queue"
 	"whirligig/reading"
 	"whirligig/snap"
 	"whirligig/val"
@@ -85,6 +86,30 @@ func TestSelect(t *testing.T) {
 		if !slices.Equal(ways, want.ways) || p.Errors != want.errors {
 			t.Error(name, ways, p.Errors)
 		}
+	}
+}
+
+func TestExecute(t *testing.T) {
+	c := reading.Read("chart c\nvar n 0\nstate a\nexit raise f ; raise f ; raise f ; raise f ; raise f ; raise f ; raise f\nenter set n n + 1 ; send g 5 ; send h 2 ; log n / 0 ; raise no\nenter if n = 2 : raise no ; if in(a) : send k 0 ; log in(a)\nenter cancel g\nexit raise last\nend")
+	n := c.All[1]
+	s := snap.Snap{Clock: 3, In: bits.Of(1), Data: []val.Value{val.Of(0)}}
+	o, ok := c.Execute(s, n.Enter...)
+	want := snap.Snap{
+		Clock: 3, Seq: 2, In: s.In, Data: []val.Value{val.Of(1)}, Inner: []string{"error.execution"}, Outer: []string{"k"},
+		Timers: []queue.Timer{{Due: 5, Seq: 1, Name: "h"}}, Last: snap.Last{Out: []string{"true"}},
+	}
+	if !ok || !o.Same(want) {
+		t.Error(o, ok)
+	}
+	if got, ok := c.Execute(s, n.Exit...); !ok || len(got.Inner) != 8 {
+		t.Error(got, ok)
+	}
+	// There is room for seven more, but not for eight.
+	if got, ok := c.Execute(o, n.Exit[0]); !ok || len(got.Inner) != 8 {
+		t.Error(got, ok)
+	}
+	if got, ok := c.Execute(o, n.Exit...); ok || !got.Same(o) {
+		t.Error(got, ok)
 	}
 }
 
